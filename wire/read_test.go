@@ -2,6 +2,7 @@ package wire_test
 
 import (
 	"math/rand"
+	"slices"
 	"strings"
 	"testing"
 
@@ -19,20 +20,20 @@ func groupsOf(s string) int {
 	return n
 }
 
-// wantedNumber is the number that a text begins with and how many bytes it has, or the error of the first byte that is one.
+// wantedNumber is the number that a text begins with and how many bytes it has, or its error; above Most is only what has its last byte.
 func wantedNumber(s string) (int, int, api.Errno) {
-	for length := 1; ; length++ {
-		switch {
-		case length > len(s):
-			return 0, 0, api.ErrEnd
-		case s[0] == 0x80, length == 7 && s[6] > 0x7f:
-			return 0, 0, api.ErrText
-		case groupsOf(s[:length]) > most:
-			return 0, 0, api.ErrArg
-		case s[length-1] <= 0x7f:
-			return groupsOf(s[:length]), length, api.OK
-		}
+	last := slices.IndexFunc([]byte(s), func(b byte) bool { return b <= 0x7f })
+	switch {
+	case s == "":
+		return 0, 0, api.ErrEnd
+	case s[0] == 0x80, len(s) >= 7 && (last < 0 || last >= 7):
+		return 0, 0, api.ErrText
+	case last < 0:
+		return 0, 0, api.ErrEnd
+	case groupsOf(s[:last+1]) > most:
+		return 0, 0, api.ErrArg
 	}
+	return groupsOf(s[:last+1]), last + 1, api.OK
 }
 
 // wantedRead is what Read answers of a frame with this text, by the chapter's list.
@@ -118,7 +119,7 @@ var numberPlaces = []int{0, 1, 2, 3, 4, 5, 6, 7, 8, 9, 10, 12}
 // P15.2: numbers that begin with 80, in each part.
 func TestReadLeading(t *testing.T) {
 	for _, at := range numberPlaces {
-		for _, piece := range []string{"\x80", "\x80\x00", "\x80\x01", "\x80\x81\x00", "\x80\x80\x80\x00", "\x80\xa0\x80\x80\x80\x80\x01", "\x80\x81\x81\x81\x81\x81\x81\x81", "\x80" + strings.Repeat("\xff", 20)} {
+		for _, piece := range []string{"\x80", "\x80\x00", "\x80\x01", "\x80\x81\x00", "\x80\x80\x80\x00", "\x80\xa0\x80\x80\x80\x80\x01", "\x80\x81\x81\x81\x81\x81\x81\x81", "\x80\x80\x80\x80\x80\x80", "\x80\xff\xff\xff\xff\xff", "\x80\x80\x80\x80\x80\x80\x80", "\x80\xa0\x80\x80\x80\x80\x80", "\x80\xff\xff\xff\xff\xff\xff", "\x80" + strings.Repeat("\xff", 20)} {
 			is(t, reads(t, with(at, piece)), partAt(at), api.ErrText)
 			is(t, reads(t, upTo(at, piece)), partAt(at), api.ErrText)
 		}
@@ -139,12 +140,14 @@ func TestReadLong(t *testing.T) {
 	}
 }
 
-// P15.2: numbers above Most, in each part: the byte with which a number is above it is the first that is wrong, whatever follows.
+// P15.2: numbers above Most that have their last byte, in each part, whatever follows.
 func TestReadAboveMost(t *testing.T) {
 	for _, at := range numberPlaces {
-		for _, piece := range []string{"\xa0\x80\x80\x80\x80\x01", "\xa0\x80\x80\x80\x81\x00", "\xa1\x80\x80\x80\x80\x00", "\xff\xff\xff\xff\xff\x7f", "\xa0\x80\x80\x80\x80\x81", "\xff\xff\xff\xff\xff\xff", "\xff\xff\xff\xff\xff\xff\xff", "\xff\xff\xff\xff\xff\xff\xff\xff\x00"} {
-			is(t, reads(t, with(at, piece)), partAt(at), api.ErrArg)
-			is(t, reads(t, upTo(at, piece)), partAt(at), api.ErrArg)
+		for _, piece := range []string{"\xa0\x80\x80\x80\x80\x01", "\xa0\x80\x80\x80\x81\x00", "\xa1\x80\x80\x80\x80\x00", "\xff\xff\xff\xff\xff\x7f", "\xa0\x80\x80\x80\x80\x81\x00", "\xff\xff\xff\xff\xff\xff\x7f"} {
+			for _, more := range []string{"", "\x00", "\x80", "\xff\xff\xff\xff\xff\xff\xff"} {
+				is(t, reads(t, with(at, piece+more)), partAt(at), api.ErrArg)
+				is(t, reads(t, upTo(at, piece+more)), partAt(at), api.ErrArg)
+			}
 		}
 	}
 	for at := 1; at < 10; at++ {
@@ -153,6 +156,78 @@ func TestReadAboveMost(t *testing.T) {
 				t.Errorf("number %d is %d: %v", at+1, n, e)
 			}
 		}
+	}
+}
+
+// unended are rows of so many bytes that have the highest bit set, the first of them not 80: groups that come to less than Most, to Most, and to more.
+func unended(length int) []string {
+	l := []string{"\x81", "\x9f", "\xa0", "\xa1", "\xc0", "\xff"}
+	for range length - 1 {
+		var longer []string
+		for _, s := range l {
+			longer = append(longer, s+"\x80", s+"\x81", s+"\xff")
+		}
+		l = longer
+	}
+	return l
+}
+
+// P15.2: numbers of which six bytes have the highest bit set, above Most and not, in each part: the text ends ahead of the last byte, or a seventh one is there.
+func TestReadSixUnended(t *testing.T) {
+	var below, above int
+	for _, piece := range unended(6) {
+		if groupsOf(piece) > most {
+			above++
+		} else {
+			below++
+		}
+		for _, at := range numberPlaces {
+			is(t, reads(t, upTo(at, piece)), partAt(at), api.ErrEnd)
+			for _, last := range []string{"\x00", "\x01", "\x7f"} {
+				is(t, reads(t, upTo(at, piece+last)), partAt(at), api.ErrArg)
+				is(t, reads(t, with(at, piece+last)), partAt(at), api.ErrArg)
+			}
+		}
+	}
+	if below == 0 || above == 0 {
+		t.Errorf("%d rows up to Most, %d above it", below, above)
+	}
+}
+
+// P15.2: numbers of which seven bytes have the highest bit set, the first six groups above Most and not, in each part, whatever follows. (All seven come to at most Most only behind an 80: TestReadLeading.)
+func TestReadSevenUnended(t *testing.T) {
+	for _, piece := range unended(7) {
+		for _, at := range numberPlaces {
+			is(t, reads(t, upTo(at, piece)), partAt(at), api.ErrText)
+			is(t, reads(t, upTo(at, piece+"\x00")), partAt(at), api.ErrText)
+			is(t, reads(t, upTo(at, piece+"\xff")), partAt(at), api.ErrText)
+			is(t, reads(t, with(at, piece)), partAt(at), api.ErrText)
+		}
+	}
+}
+
+// P15.2: numbers without a last byte in texts that are else as short as can be, their errors written out.
+func TestReadUnendedShort(t *testing.T) {
+	zeros := func(n int) string { return "\x06" + strings.Repeat("\x00", n) }
+	for _, c := range []struct {
+		body string
+		part int
+		why  api.Errno
+	}{
+		{"\xa0\x80\x80\x80\x80\x80", 1, api.ErrEnd},
+		{"\xa0\x80\x80\x80\x80\x81", 1, api.ErrEnd},
+		{"\xff\xff\xff\xff\xff\xff", 1, api.ErrEnd},
+		{"\xa0\x80\x80\x80\x80\x81\x80", 1, api.ErrText},
+		{"\xff\xff\xff\xff\xff\xff\xff", 1, api.ErrText},
+		{"\xff\xff\xff\xff\xff\xff\xff\xff\x00", 1, api.ErrText},
+		{zeros(8) + "\xc0\x80\x80\x80\x80\x80", 10, api.ErrEnd},
+		{zeros(8) + "\xc0\x80\x80\x80\x80\x80\x80", 10, api.ErrText},
+		{zeros(9) + "\xc0\x80\x80\x80\x80\x80", 11, api.ErrEnd},
+		{zeros(9) + "\xc0\x80\x80\x80\x80\x80\x80", 11, api.ErrText},
+		{zeros(10) + "\xc0\x80\x80\x80\x80\x80", 12, api.ErrEnd},
+		{zeros(10) + "\xc0\x80\x80\x80\x80\x80\x80", 12, api.ErrText},
+	} {
+		is(t, reads(t, c.body), c.part, c.why)
 	}
 }
 
@@ -235,7 +310,7 @@ func TestReadFormFirst(t *testing.T) {
 
 // P15.2: two parts that are wrong: the first of them.
 func TestReadFirstPart(t *testing.T) {
-	wrong := []string{"\x80", "\x81\x81\x81\x81\x81\x81\x81", "\xff\xff\xff\xff\xff\x7f", "\x80\x01"}
+	wrong := []string{"\x80", "\x81\x81\x81\x81\x81\x81\x81", "\xff\xff\xff\xff\xff\xff\xff", "\xff\xff\xff\xff\xff\x7f", "\x80\x01"}
 	for i, first := range numberPlaces {
 		for _, second := range numberPlaces[i+1:] {
 			for _, a := range wrong {
