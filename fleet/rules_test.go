@@ -33,9 +33,12 @@ func isPart(m wire.Msg) bool {
 	return m.Kind == wire.Begin || m.Kind == wire.Chunk
 }
 
-// youngest are the frames that stand last and weren't there ahead of a call, of which at most one frame that was there is gone.
+// youngest are the frames that a call sent, if it did nothing to those that were there but that one came.
 func youngest(was, now []net.Parcel) []net.Parcel {
-	return now[max(0, min(len(was)-1, len(now))):]
+	if len(now) >= len(was) && slices.Equal(now[:len(was)], was) {
+		return now[len(was):]
+	}
+	return now[len(was)-1:]
 }
 
 // Parts go to a node only from one that believes in it, by the epoch of that belief; those that go on say nothing but answers and what came, to whom it belongs.
@@ -47,14 +50,13 @@ func TestParts(t *testing.T) {
 		s.Term = max(s.Term, s.Margin+1)
 		x := watched(t, s, "seed %d", seed)
 		m := anyMood(rnd)
-		m[3], m[4], m[5], m[12] = 0, 0, 0, 0 // frames come, or stand where they are
+		m[3], m[4], m[5], m[6], m[12] = 0, 0, 0, 0, 0 // frames come, or stand where and as they are
 		for range 300 {
 			was := fleet.Parcels(x.w)
 			x.anyCall(rnd, m, bounds{6, 6, 0})
-			now := fleet.Parcels(x.w)
-			for _, p := range youngest(was, now) {
+			for _, p := range youngest(was, fleet.Parcels(x.w)) {
 				said := read(p)
-				if !isPart(said) || len(now) < len(was) || slices.Contains(was, p) {
+				if !isPart(said) {
 					continue
 				}
 				parts++
@@ -326,14 +328,14 @@ func handingOut(t *testing.T, what string) *watch {
 	s.Part = 8
 	x := watched(t, s, "%s", what)
 	x.w.Submit([]int{1, 2, 3, 4, 5, 6}, 6)
-	for len(x.w.Believers(3)) == 0 {
+	x.until(func() bool { return x.isBelieved(3) }, func() {
 		for i := range 5 {
 			x.w.Tick(i)
 		}
 		for x.w.Way() > 0 && !isPart(read(fleet.Parcels(x.w)[0])) {
 			x.w.Deliver(0, false)
 		}
-	}
+	})
 	return x
 }
 

@@ -274,3 +274,20 @@ func (x *watch) is(call string, e api.Errno, there bool) {
 		x.fail("%s: %d", call, e)
 	}
 }
+
+// until goes on by steps until something is so, at most 100 of them.
+func (x *watch) until(is func() bool, step func()) {
+	x.t.Helper()
+	for range 100 {
+		if is() {
+			return
+		}
+		step()
+	}
+	x.fail("what is waited for doesn't come")
+}
+
+// isBelieved tells whether somebody believes in one of some places.
+func (x *watch) isBelieved(places ...int) bool {
+	return slices.ContainsFunc(places, func(to int) bool { return len(x.w.Believers(to)) > 0 })
+}
